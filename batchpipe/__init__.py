@@ -1,0 +1,1 @@
+"""Batchpipe: wares sent one behind another through one long pipe."""
