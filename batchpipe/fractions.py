@@ -31,3 +31,11 @@ def times(one, other):
 
 def below(one, other):
     return one[0] * other[1] < other[0] * one[1]
+
+
+def lesser(one, other):
+    return one if below(one, other) else other
+
+
+def greater(one, other):
+    return other if below(one, other) else one

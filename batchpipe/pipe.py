@@ -1,6 +1,6 @@
 """The pipe: its segments, how far wares mix on their way, and which must not touch."""
 
-from batchpipe.fractions import made
+from batchpipe.fractions import made, times
 
 
 class Pipe:
@@ -12,8 +12,16 @@ class Pipe:
         self.pig = pig
 
 
+def like_pipe(pipe):
+    return Pipe(pipe.rooms, pipe.table, pipe.thick, pipe.apart, pipe.pig)
+
+
 def place_of(pipe, node):
     return sum(pipe.rooms[:node])
+
+
+def end_of(pipe):
+    return place_of(pipe, len(pipe.rooms))
 
 
 def half_at(pipe, distance):
@@ -40,3 +48,15 @@ def thick_of(pipe, one, other):
 
 def are_apart(pipe, one, other):
     return (one, other) in pipe.apart or (other, one) in pipe.apart
+
+
+def first_apart(pipe, pairs):
+    for one, other in pairs:
+        if are_apart(pipe, one, other):
+            return (one, other)
+    return None
+
+
+def half_between(pipe, one, other, distance, with_pig):
+    half = times(half_at(pipe, distance), (thick_of(pipe, one, other), 1))
+    return times(half, pipe.pig) if with_pig else half

@@ -26,6 +26,13 @@ OWN_METHODS = set(
     "items join keys ljust lower lstrip partition pop remove replace reverse rfind rjust rpartition rsplit rstrip "
     "setdefault split splitlines startswith strip update upper values zfill bit_length".split()
 )
+WALKS = {"zip", "enumerate", "reversed", "range"}
+DICT_WALKS = {"items", "keys", "values"}
+WALKERS = {"list", "tuple", "dict", "sorted", "sum", "any", "all", "enumerate", "zip"}
+KEYWORDS = {
+    "sorted": {"key", "reverse"}, "min": {"key", "default"}, "max": {"key", "default"}, "sum": {"start"},
+    "enumerate": {"start"}, "zip": {"strict"},
+}
 SPECIAL_METHODS = {"__init__", "__eq__", "__repr__", "__str__", "__len__"}
 BARRED_NAMES = set(
     "register mro elements open input version_info with_traceback add_note attrgetter breakpoint builtins compile "
@@ -61,6 +68,43 @@ def own_methods_of(trees):
             if isinstance(node, ast.ClassDef):
                 found.update(part.name for part in node.body if isinstance(part, ast.FunctionDef))
     return found
+
+
+def is_plain(node, defined):
+    """Whether a value is one that may stand at the top of a file or as a default."""
+    if isinstance(node, ast.UnaryOp):
+        return isinstance(node.op, ast.USub) and is_plain(node.operand, defined)
+    if isinstance(node, (ast.List, ast.Tuple)):
+        return all(is_plain(part, defined) for part in node.elts)
+    if isinstance(node, ast.Dict):
+        return all(is_plain(part, defined) for part in node.keys + node.values)
+    return isinstance(node, ast.Constant) or isinstance(node, ast.Name) and node.id in defined
+
+
+def parents_of(tree):
+    return {child: node for node in ast.walk(tree) for child in ast.iter_child_nodes(node)}
+
+
+def is_call_of(node, names):
+    return isinstance(node, ast.Call) and isinstance(node.func, ast.Name) and node.func.id in names
+
+
+def is_walk(node):
+    """Whether it is one of those that are walked on the spot, not kept."""
+    if is_call_of(node, WALKS):
+        return True
+    return isinstance(node, ast.Call) and isinstance(node.func, ast.Attribute) and node.func.attr in DICT_WALKS
+
+
+def walks_at_once(node, parents):
+    parent = parents[node]
+    if isinstance(parent, (ast.For, ast.comprehension)):
+        return parent.iter is node
+    if is_call_of(parent, WALKERS):
+        return parent.args[0] is node or parent.func.id == "zip"
+    if is_call_of(parent, {"min", "max"}):
+        return parent.args == [node]
+    return isinstance(parent, ast.Call) and isinstance(parent.func, ast.Attribute) and parent.func.attr == "join"
 
 
 class Language(unittest.TestCase):
@@ -163,6 +207,110 @@ class Language(unittest.TestCase):
                     if isinstance(op, (ast.Is, ast.IsNot)):
                         self.assertIsInstance(right, ast.Constant, where)
                         self.assertIn(type(right.value), (bool, type(None)), where)
+
+    def test_the_top_of_a_file(self):
+        for name, tree in self.trees.items():
+            bound = []
+            for number, node in enumerate(tree.body):
+                where = f"{name}:{node.lineno}"
+                if isinstance(node, (ast.FunctionDef, ast.ClassDef)):
+                    bound.append(node.name)
+                elif isinstance(node, ast.ImportFrom):
+                    bound.extend(alias.asname or alias.name for alias in node.names)
+                elif isinstance(node, ast.Assign):
+                    self.assertIsInstance(node.targets[0], ast.Name, where)
+                    self.assertTrue(is_plain(node.value, bound), where)
+                    bound.append(node.targets[0].id)
+                else:
+                    self.assertTrue(number == 0 and isinstance(node, ast.Expr), where)
+            self.assertEqual(len(set(bound)), len(bound), name)
+
+    def test_defaults_are_plain_and_nothing_is_annotated(self):
+        for where, node in self.nodes():
+            if isinstance(node, ast.FunctionDef):
+                self.assertIsNone(node.returns, where)
+                for default in node.args.defaults:
+                    self.assertTrue(is_plain(default, []), where)
+            if isinstance(node, ast.arg):
+                self.assertIsNone(node.annotation, where)
+
+    def test_no_local_is_called_like_a_class_or_an_import_of_its_file(self):
+        pythons = set(dir(builtins))
+        for name, tree in self.trees.items():
+            taken = set(pythons)
+            for node in tree.body:
+                if isinstance(node, ast.ClassDef):
+                    taken.add(node.name)
+                elif isinstance(node, ast.ImportFrom):
+                    taken.update(alias.asname or alias.name for alias in node.names)
+            for node in ast.walk(tree):
+                if isinstance(node, ast.arg):
+                    self.assertNotIn(node.arg, taken, f"{name}:{node.lineno}")
+                if isinstance(node, ast.Name) and isinstance(node.ctx, ast.Store):
+                    self.assertNotIn(node.id, taken, f"{name}:{node.lineno}")
+
+    def test_no_two_files_draw_from_one_another(self):
+        drawn = {
+            name: {node.module.split(".")[1] + ".py" for node in tree.body if isinstance(node, ast.ImportFrom)}
+            for name, tree in self.trees.items()
+        }
+        left = dict(drawn)
+        while left:
+            free = [name for name, others in left.items() if not others & set(left)]
+            self.assertNotEqual(free, [], sorted(left))
+            left = {name: others for name, others in left.items() if name not in free}
+
+    def test_no_name_is_a_method_here_and_a_value_there(self):
+        stored = {
+            node.attr for where, node in self.nodes()
+            if isinstance(node, ast.Attribute) and isinstance(node.ctx, ast.Store)
+        }
+        self.assertEqual(stored & own_methods_of(self.trees.values()), set())
+        for kind in [str, int, list, dict, set, bytes]:
+            self.assertEqual(stored & set(dir(kind)), set())
+
+    def test_comprehensions_and_f_strings_are_plain(self):
+        for where, node in self.nodes():
+            if isinstance(node, ast.ListComp):
+                self.assertEqual(len(node.generators), 1, where)
+                self.assertLessEqual(len(node.generators[0].ifs), 1, where)
+            if isinstance(node, ast.FormattedValue):
+                self.assertIsInstance(node.value, ast.Name, where)
+                self.assertIsNone(node.format_spec, where)
+            if isinstance(node, ast.Constant) and isinstance(node.value, str):
+                self.assertNotIn("%", node.value, where)
+            if isinstance(node, ast.BinOp) and isinstance(node.op, ast.Pow):
+                self.assertIsInstance(node.right, ast.Constant, where)
+
+    def test_keywords_at_names_of_pythons_own(self):
+        for where, node in self.nodes():
+            if isinstance(node, ast.Call) and isinstance(node.func, ast.Name) and node.func.id in OWN_NAMES:
+                self.assertLessEqual({word.arg for word in node.keywords}, KEYWORDS.get(node.func.id, set()), where)
+
+    def test_what_is_walked_is_walked_at_once(self):
+        for name, tree in self.trees.items():
+            parents = parents_of(tree)
+            for node in ast.walk(tree):
+                if is_walk(node):
+                    self.assertTrue(walks_at_once(node, parents), f"{name}:{node.lineno}")
+
+    def test_no_set_is_kept(self):
+        for name, tree in self.trees.items():
+            parents = parents_of(tree)
+            for node in ast.walk(tree):
+                if isinstance(node, ast.Set) or is_call_of(node, {"set", "frozenset"}):
+                    parent = parents[node]
+                    fits = isinstance(parent, (ast.Compare, ast.BinOp)) or is_call_of(parent, {"sorted", "len"})
+                    self.assertTrue(fits, f"{name}:{node.lineno}")
+
+    def test_errors_are_raised_and_taken_by_name(self):
+        for where, node in self.nodes():
+            if isinstance(node, ast.ExceptHandler):
+                self.assertIsNotNone(node.type, where)
+                taken = node.type.elts if isinstance(node.type, ast.Tuple) else [node.type]
+                self.assertLessEqual({"Exception", "TypeError"} & {error.id for error in taken}, set(), where)
+            if isinstance(node, ast.Raise):
+                self.assertIsInstance(node.exc, ast.Call, where)
 
 
 if __name__ == "__main__":
