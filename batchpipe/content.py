@@ -46,6 +46,10 @@ def content_of(pipe, row, riding):
     return content
 
 
+def like_content(content):
+    return content_of(content.own_pipe, content.lying, content.riding)
+
+
 def stretches(content):
     return [(ware, volume) for ware, volume, since in content.lying]
 

@@ -24,6 +24,10 @@ def end_of(pipe):
     return place_of(pipe, len(pipe.rooms))
 
 
+def is_way(pipe, i, j):
+    return 0 <= i < j <= len(pipe.rooms)
+
+
 def half_at(pipe, distance):
     near = 0
     near_half = 0

@@ -3,14 +3,18 @@
 from batchpipe.content import content_of
 from batchpipe.errors import NoWay, Touch
 from batchpipe.moving import cut, moving_row
-from batchpipe.pipe import end_of, half_between, place_of
+from batchpipe.pipe import end_of, half_between, is_way, place_of
 from batchpipe.touching import first_touch
+
+
+def check_way(pipe, i, j):
+    if not is_way(pipe, i, j):
+        raise NoWay("the pipe has no way between these nodes")
 
 
 def pushed(content, i, j, ware, volume, pig=None):
     pipe = content.own_pipe
-    if not 0 <= i < j <= len(pipe.rooms):
-        raise NoWay("the pipe has no way between these nodes")
+    check_way(pipe, i, j)
     pair = first_touch(content, i, j, ware, volume)
     if pair is not None:
         raise Touch(pair)

@@ -16,13 +16,18 @@ def passing_wares(row, volume):
     return passing
 
 
+def pairs_ahead(content, a, ware):
+    return [(ware_at(content, a - 1), ware)] if a > 0 else []
+
+
+def pairs_at_first(content, a, ware):
+    return pairs_ahead(content, a, ware) + [(ware, ware_at(content, a))]
+
+
 def touching_pairs(content, i, j, ware, volume):
     a = place_of(content.own_pipe, i)
     b = place_of(content.own_pipe, j)
-    pairs = []
-    if i > 0:
-        pairs.append((ware_at(content, a - 1), ware))
-    pairs.append((ware, ware_at(content, a)))
+    pairs = pairs_at_first(content, a, ware)
     if j < len(content.own_pipe.rooms):
         behind = ware_at(content, b)
         for passing in passing_wares(moving_row(content, a, b, ware, volume), volume):

@@ -3,6 +3,7 @@
 from batchpipe.content import stretches
 from batchpipe.fractions import below, greater, less_by, lesser, sum_of
 from batchpipe.pipe import half_between
+from batchpipe.shares import add_amount, together
 
 
 def told(content):
@@ -78,10 +79,6 @@ def view_of(row, halves):
     return view
 
 
-def add_amount(amounts, ware, more):
-    amounts[ware] = sum_of(amounts.get(ware, (0, 1)), more)
-
-
 def mixed_of(view):
     mixed = (0, 1)
     for start, stop, shares in view:
@@ -91,8 +88,4 @@ def mixed_of(view):
 
 
 def amounts_of(view):
-    amounts = {}
-    for start, stop, shares in view:
-        for ware, amount in shares:
-            add_amount(amounts, ware, amount)
-    return sorted(amounts.items())
+    return together([shares for start, stop, shares in view])

@@ -45,3 +45,63 @@ def scaled_fields(fields, scale):
 
 def pipe_of(fields):
     return Pipe(*fields)
+
+
+def drawn_sources(draw, wares, segments):
+    places = [(node, ware) for node in range(segments) for ware in wares]
+    sources = []
+    for node, ware in places:
+        if node == 0 or draw.random() < 0.6:
+            level = draw.randint(0, 90)
+            sources.append((node, ware, level, draw.randint(0, min(level, 10)), draw.randint(1, 4)))
+    return draw.sample(sources, draw.randint(1, len(sources)))
+
+
+def drawn_tanks(draw, wares, segments):
+    tanks = []
+    for node in range(1, segments + 1):
+        for ware in wares:
+            if draw.random() < 0.8:
+                high = draw.randint(5, 60)
+                start = draw.choice([0, draw.randint(0, high)])
+                settle = draw.choice([0, draw.randint(0, 9)])
+                tanks.append((node, ware, draw.choice([0, draw.randint(0, 5)]), high, start, settle))
+    return draw.sample(tanks, len(tanks))
+
+
+def drawn_bounds(draw, wares, segments):
+    bounds = []
+    for ware in wares:
+        for other in wares:
+            if ware != other and draw.random() < 0.7:
+                parts = draw.randint(1, 12)
+                bounds.append((ware, other, (draw.randint(0, parts), parts)))
+    return draw.sample(bounds, len(bounds))
+
+
+def drawn_orders(draw, wares, segments):
+    orders = []
+    for number in range(draw.randint(0, 7)):
+        first = draw.choice([0, 0, 0, draw.randint(0, 3)])
+        last = first + draw.choice([0, 2, 5])
+        orders.append((draw.randint(1, segments), draw.choice(wares), draw.randint(1, 8), first, last))
+    return orders
+
+
+def drawn_deed(draw, wares, rooms, sources, orders):
+    kind = draw.choice(["push"] * 5 + ["take"] * 4 + ["wait"])
+    if kind == "wait":
+        return ("wait", draw.choice([1, 2, draw.randint(1, 30)]))
+    if kind == "take":
+        return ("take", draw.choice([draw.randint(-2, orders + 1), draw.randint(0, max(orders - 1, 0))]))
+    i, j, ware, volume, pig = drawn_push(draw, wares, rooms)
+    likely = [name for node, name, level, low, rate in sources if node == i]
+    if likely and draw.random() < 0.9:
+        ware = draw.choice(likely)
+    if draw.random() < 0.05:
+        i, j = draw.randint(-1, len(rooms) + 1), draw.randint(-1, len(rooms) + 1)
+    return ("push", i, j, ware, volume, pig)
+
+
+def drawn_spacers(draw, wares):
+    return [(draw.choice(wares + ["water"]), draw.randint(1, 12)) for number in range(draw.randint(0, 5))]

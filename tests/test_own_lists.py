@@ -8,6 +8,7 @@ from batchpipe.pipe import Pipe
 from batchpipe.pushing import pushed
 from batchpipe.touching import first_touch
 from batchpipe.views import amounts_of, mixed_of, told, told_out
+from spoiling import lists_in, replace_fields, spoil, spoil_pipe
 
 FILL = [("oil", 5), ("oil", 2), ("gas", 5), ("wax", 3)]
 
@@ -37,38 +38,6 @@ def all_of(content):
         later, out, caught = pushed(content, *push)
         answers.append([stretches(later), meetings(later), pigs(later), told(later), out, told_out(out), caught])
     return copy.deepcopy(answers)
-
-
-def spoil_pipe(pipe):
-    pipe.rooms.insert(0, 3)
-    pipe.table.clear()
-    pipe.thick.append(("gas", "wax", 9))
-    pipe.apart.extend([("oil", "gas"), ("gas", "wax"), ("oil", "wax")])
-    pipe.pig = (0, 1)
-
-
-def replace_fields(pipe):
-    pipe.rooms = [1]
-    pipe.table = []
-    pipe.thick = []
-    pipe.apart = [("oil", "gas"), ("gas", "wax"), ("oil", "wax")]
-    pipe.pig = (0, 1)
-
-
-def lists_in(answer):
-    found = []
-    if isinstance(answer, list):
-        found.append(answer)
-    if isinstance(answer, (list, tuple)):
-        for part in answer:
-            found.extend(lists_in(part))
-    return found
-
-
-def spoil(answer):
-    for part in lists_in(answer):
-        part.append("spoiled")
-        part.reverse()
 
 
 class HandedIn(unittest.TestCase):
