@@ -20,14 +20,15 @@ def spacer_for(content, i, j, ware, spacers):
     raise NoSpacer("none of the spacers may lie between")
 
 
-def sent(content, i, j, ware, volume, spacers):
-    pushes = [(ware, volume)]
+def pushes_for(content, i, j, ware, volume, spacers):
     spacer = spacer_for(content, i, j, ware, spacers)
-    if spacer is not None:
-        pushes.insert(0, spacer)
+    return [(ware, volume)] if spacer is None else [spacer, (ware, volume)]
+
+
+def sent(content, i, j, ware, volume, spacers):
     later = content
     outs = []
-    for batch, amount in pushes:
+    for batch, amount in pushes_for(content, i, j, ware, volume, spacers):
         later, out, caught = pushed(later, i, j, batch, amount)
         outs.append(out)
     return (later, outs)

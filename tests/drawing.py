@@ -29,6 +29,16 @@ def drawn_fill(draw, wares, end):
     return fill
 
 
+def drawn_pipe_and_fill(draw, most_apart):
+    """A pipe's fields, and a fill that may lie in it."""
+    while True:
+        fields = drawn_pipe_fields(draw, WARES, most_apart)
+        fill = drawn_fill(draw, WARES, sum(fields[0]))
+        apart = {frozenset(pair) for pair in fields[3]}
+        if not any(frozenset((near[0], far[0])) in apart for near, far in zip(fill, fill[1:])):
+            return fields, fill
+
+
 def drawn_push(draw, wares, rooms):
     i = draw.randrange(len(rooms))
     j = draw.randint(i + 1, len(rooms))
@@ -105,3 +115,23 @@ def drawn_deed(draw, wares, rooms, sources, orders):
 
 def drawn_spacers(draw, wares):
     return [(draw.choice(wares + ["water"]), draw.randint(1, 12)) for number in range(draw.randint(0, 5))]
+
+
+def drawn_plan(draw):
+    """Parts of a works, batches and spacers, of which a plan can be made now and then."""
+    wares = WARES + ["water"]
+    fields, fill = drawn_pipe_and_fill(draw, 3)
+    end = len(fields[0])
+    short = draw.random() < 0.2
+    sources = [(0, ware, draw.randint(0, 30) if short else 300, 0, draw.randint(1, 4)) for ware in wares]
+    tanks = []
+    for ware in wares:
+        high = draw.choice([20, 60, 200, 200])
+        tanks.append((end, ware, draw.choice([0, 2]), high, draw.randint(0, 8), draw.choice([0, 0, 5, 30])))
+    orders = []
+    for number in range(draw.choice([0, 1, 2, 2, 3])):
+        first = draw.choice([0, 0, 1, 2])
+        orders.append((end, draw.choice(wares), draw.randint(1, 8), first, first + draw.randint(0, 2)))
+    batches = [(draw.choice(WARES), draw.randint(1, 40)) for number in range(draw.choice([1, 2, 2, 3, 3, 3, 4]))]
+    parts = [draw.sample(sources, draw.choice([4, 5, 5])), draw.sample(tanks, draw.choice([4, 5, 5]))]
+    return fields, fill, parts + [drawn_bounds(draw, wares, end), orders], batches, drawn_spacers(draw, WARES)

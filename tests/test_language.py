@@ -107,6 +107,18 @@ def walks_at_once(node, parents):
     return isinstance(parent, ast.Call) and isinstance(parent.func, ast.Attribute) and parent.func.attr == "join"
 
 
+def only_reads(node, parents):
+    """Whether a name stands where its list or dict is read: by an index, a walk, in, or get."""
+    parent = parents[node]
+    if isinstance(parent, ast.Subscript):
+        return parent.value is node and isinstance(parent.ctx, ast.Load)
+    if isinstance(parent, ast.Compare):
+        return node in parent.comparators
+    if isinstance(parent, ast.Attribute):
+        return parent.attr == "get"
+    return isinstance(parent, (ast.For, ast.comprehension)) and parent.iter is node
+
+
 class Language(unittest.TestCase):
     @classmethod
     def setUpClass(cls):
@@ -302,6 +314,20 @@ class Language(unittest.TestCase):
                     parent = parents[node]
                     fits = isinstance(parent, (ast.Compare, ast.BinOp)) or is_call_of(parent, {"sorted", "len"})
                     self.assertTrue(fits, f"{name}:{node.lineno}")
+
+    def test_lists_and_dicts_of_a_files_top_are_only_read(self):
+        for name, tree in self.trees.items():
+            kept = {
+                node.targets[0].id: node.value for node in tree.body
+                if isinstance(node, ast.Assign) and isinstance(node.value, (ast.List, ast.Dict))
+            }
+            for value in kept.values():
+                within = [part for part in ast.walk(value) if part is not value]
+                self.assertEqual([part for part in within if isinstance(part, (ast.List, ast.Dict))], [], name)
+            parents = parents_of(tree)
+            for node in ast.walk(tree):
+                if isinstance(node, ast.Name) and node.id in kept and isinstance(node.ctx, ast.Load):
+                    self.assertTrue(only_reads(node, parents), f"{name}:{node.lineno}")
 
     def test_errors_are_raised_and_taken_by_name(self):
         for where, node in self.nodes():

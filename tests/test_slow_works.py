@@ -4,34 +4,18 @@ import random
 import unittest
 from fractions import Fraction
 
-from batchpipe.content import Content, meetings, pigs, stretches
+from batchpipe.content import Content
 from batchpipe.errors import BadDeed, NoSpacer, NoWay, Touch
 from batchpipe.spacers import sent, spacer_for
 from batchpipe.tanks import level_of
 from batchpipe.works import Works, account_of, do_deed, like
-from drawing import WARES, drawn_bounds, drawn_deed, drawn_fill, drawn_orders, drawn_pipe_fields, drawn_push
-from drawing import drawn_sources, drawn_spacers, drawn_tanks, pipe_of
+from drawing import WARES, drawn_bounds, drawn_deed, drawn_orders, drawn_pipe_and_fill, drawn_push, drawn_sources
+from drawing import drawn_spacers, drawn_tanks, pipe_of
 from slow_pipe import SlowPipe, SlowTouch
 from slow_works import SlowRefused, SlowWorks, slow_spacer
-from works_state import works_state
+from works_state import fast_state, lying_state, works_state
 
 WORDS = ["way", "source", "touch", "low", "high", "order", "tank", "early", "late", "settle"]
-
-
-def content_state(content):
-    return (stretches(content), meetings(content), pigs(content))
-
-
-def fast_state(works):
-    return {
-        "content": content_state(works.content),
-        "hour": works.hour,
-        "sources": works.sources,
-        "tanks": [(node, tank.ware, tank.holds, tank.rested) for node, tank in works.tanks],
-        "slops": works.slops,
-        "taken": works.taken,
-        "account": account_of(works),
-    }
 
 
 def goals_of_mixed(told):
@@ -43,16 +27,6 @@ def goals_of_mixed(told):
         if len(shares) > 1:
             words.append("to slop" if goal is None else "to its own tank" if goal == wares[0] else "to another tank")
     return words
-
-
-def drawn_pipe_and_fill(draw, most_apart):
-    """A pipe's fields, and a fill that may lie in it."""
-    while True:
-        fields = drawn_pipe_fields(draw, WARES, most_apart)
-        fill = drawn_fill(draw, WARES, sum(fields[0]))
-        apart = {frozenset(pair) for pair in fields[3]}
-        if not any(frozenset((near[0], far[0])) in apart for near, far in zip(fill, fill[1:])):
-            return fields, fill
 
 
 class DrawnWorks(unittest.TestCase):
@@ -139,7 +113,7 @@ class DrawnSpacers(unittest.TestCase):
             i, j, ware, volume, pig = drawn_push(draw, WARES, fields[0])
             ware = self.ware_that_clashes(draw, slow, i) or ware
             spacers = drawn_spacers(draw, WARES)
-            before = content_state(content)
+            before = lying_state(content)
             spacer = slow_spacer(slow, i, ware, spacers)
             with self.subTest(number=number):
                 if spacer == "none":
@@ -161,9 +135,9 @@ class DrawnSpacers(unittest.TestCase):
                 else:
                     count["sent"] += 1
                     later, gone = sent(content, i, j, ware, volume, spacers)
-                    self.assertEqual(content_state(later), (wanted.stretches(), wanted.meetings(), wanted.pigs()))
+                    self.assertEqual(lying_state(later), (wanted.stretches(), wanted.meetings(), wanted.pigs()))
                     self.assertEqual(gone, outs)
-                self.assertEqual(content_state(content), before)
+                self.assertEqual(lying_state(content), before)
                 with self.assertRaises(NoWay):
                     spacer_for(content, j, i, ware, spacers)
         for what, times in count.items():

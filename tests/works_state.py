@@ -10,8 +10,12 @@ def pipe_fields(pipe):
     return (list(pipe.rooms), list(pipe.table), list(pipe.thick), list(pipe.apart), pipe.pig)
 
 
+def lying_state(content):
+    return (stretches(content), meetings(content), pigs(content))
+
+
 def content_state(content):
-    return (stretches(content), meetings(content), pigs(content), told(content), pipe_fields(content.pipe))
+    return lying_state(content) + (told(content), pipe_fields(content.pipe))
 
 
 def tank_fields(tank):
@@ -31,3 +35,16 @@ def works_state(works):
         "taken": works.taken,
         "account": account_of(works),
     })
+
+
+def fast_state(works):
+    """As the slow works tells its state."""
+    return {
+        "content": lying_state(works.content),
+        "hour": works.hour,
+        "sources": works.sources,
+        "tanks": [(node, tank.ware, tank.holds, tank.rested) for node, tank in works.tanks],
+        "slops": works.slops,
+        "taken": works.taken,
+        "account": account_of(works),
+    }
